@@ -1,0 +1,1 @@
+"""Sayings whose values lie anywhere from 0 to 1."""
