@@ -257,6 +257,12 @@ def check_plain(sayings, names, rows, goal):
         assert is_number_from_zero(path, goal(forms), row[1], row[2]), (path, row)
 
 
+def greater(rows, factor):
+    """The rows with all their numbers k and multiples so many times as great."""
+    return tuple(row if row == ("split",) else
+                 row[:-2] + (row[-2] * factor, tuple(number * factor for number in row[-1])) for row in rows)
+
+
 def less_one(forms):
     return (forms[0][0] - 1,) + forms[0][1:]
 

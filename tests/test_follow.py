@@ -6,7 +6,7 @@ from halftruths import errors, follow
 from halftruths.sayings import used_times
 from halftruths.validity import is_valid
 from tests.helpers import (HALF, NO, ONE, W, X, Y, YES, Z, ZERO, chained, check_bounded_pair, check_plain, check_raises,
-                           fractions_of, grid, names_of, neg, random_saying, with_marks, worth)
+                           fractions_of, greater, grid, names_of, neg, random_saying, with_marks, worth)
 from tests.webs import KEPT_AND_PASSED, TWO_WITH_17, corners_anew
 
 SQUARE = ("times", X, X)
@@ -125,6 +125,13 @@ class Certificates(unittest.TestCase):
             follows += told[0] == "follows"
         self.assertGreater(follows, 30)
 
+    def test_greater_multiples(self):
+        for first, second in ((X, SQUARE), (("and", X, Y), ("times", X, Y)), (X, YES)):
+            told = follow.follow_certificate(first, second)
+            for factor in (2, 10 ** 30):
+                value = told[:2] + (greater(told[2], factor), told[3])
+                self.assertIs(follow.is_follow_certificate(first, second, value), True)
+
     def test_not_plain(self):
         rows = (("split",), ("sum", 1, (0, 0, 0)), ("sum", 4, (0, 0, 0)))
         first = ("and", X, X)
@@ -181,6 +188,18 @@ class Certificates(unittest.TestCase):
             rows = follow.follow_certificate(X, SQUARE)[2]
             for point in ((ZERO,), (HALF,), (ONE,), ((2, 3),)):
                 self.assertIs(follow.is_follow_certificate(X, SQUARE, ("follows", uses, rows, point)), False)
+
+    def test_fewer_uses_with_rows_that_leave_a_number_below_0(self):
+        # With one use the goal is b - a: x - 1 where x >= 1/2, and -x where x <= 1/2.
+        rows = (("split",), ("sum", 1, (0, 1, 0)), ("sum", 1, (0, 0, 1)))
+        for point in ((HALF,), ((2, 3),)):
+            self.assertIs(follow.is_follow_certificate(X, SQUARE, ("follows", 1, rows, point)), False)
+        # With two uses it is 0 there, and 1 - 2 x.
+        rows = (("split",), ("sum", 1, (0, 0, 0)), ("sum", 1, (1, 0, 0)))
+        self.assertIs(follow.is_follow_certificate(X, SQUARE, ("follows", 2, rows, (HALF,))), True)
+        # Without uses it is b - 1.
+        rows = (("sum", 1, (1, 0)),)
+        self.assertIs(follow.is_follow_certificate(YES, X, ("follows", 0, rows, None)), False)
 
     def test_against_what_follows(self):
         for point in ((ZERO,), (HALF,), (ONE,)):

@@ -3,8 +3,8 @@ import unittest
 
 from halftruths import errors, likeness
 from halftruths.values import is_point
-from tests.helpers import (HALF, NO, ONE, W, X, Y, YES, Z, ZERO, check_bounded_pair, check_plain, check_raises, grid,
-                           less_one, names_of, neg, nots, random_saying, with_marks, worth, worth_at)
+from tests.helpers import (HALF, NO, ONE, W, X, Y, YES, Z, ZERO, check_bounded_pair, check_plain, check_raises, greater,
+                           grid, less_one, names_of, neg, nots, random_saying, with_marks, worth, worth_at)
 
 ALIKE = [
     (YES, YES), (YES, neg(NO)), (X, neg(neg(X))), (("plus", X, Y), ("leads", neg(X), Y)),
@@ -102,6 +102,18 @@ class IsLikeness(unittest.TestCase):
                         self.assertIs(likeness.is_likeness(first, second, rows[:k] + (wrong,) + rows[k + 1:]), False)
             for value in ((), None, True, 1, "", rows[::-1] + ((),), (rows,)):
                 self.assertIs(likeness.is_likeness(first, second, value), False)
+
+    def test_greater_multiples(self):
+        for first, second in ALIKE:
+            rows = likeness.likeness(first, second)
+            for factor in (3, 10 ** 30):
+                self.assertIs(likeness.is_likeness(first, second, greater(rows, factor)), True)
+
+    def test_an_empty_branch(self):
+        # The question of (no leads yes) is -1, so the side `least` is empty.
+        rows = (("split",), ("empty", (1,)), ("is", "least", 1, (0,)), ("sum", 1, (0,)))
+        self.assertIs(likeness.is_likeness(("leads", NO, YES), YES, rows), True)
+        self.assertIs(likeness.is_likeness(("leads", NO, YES), NO, rows), False)
 
     def test_not_plain(self):
         rows = (("split",), ("sum", 1, (0, 0, 0)), ("sum", 2, (0, 0, 0)))

@@ -166,6 +166,8 @@ class UsedTimes(unittest.TestCase):
 
     def test_words(self):
         self.assertEqual(sayings.words_in(sayings.used_times(with_words(499), 2)), 999)
+        self.assertEqual(sayings.words_in(sayings.used_times(with_words(142), 7)), 1000)
+        check_raises(self, TooGreat, {"what": "words"}, sayings.used_times, with_words(143), 7)
         check_raises(self, TooGreat, {"what": "words"}, sayings.used_times, with_words(500), 2)
         check_raises(self, TooGreat, {"what": "words"}, sayings.used_times, X, 501)
         check_raises(self, TooGreat, {"what": "words"}, sayings.used_times, X, 10 ** 30)

@@ -1,0 +1,37 @@
+import importlib
+import inspect
+import unittest
+
+LISTED = {
+    "errors": "HalfError UnknownName TooMany TooGreat OutOfRange WrongMark WrongSize NotAFunction NoEdge BadText "
+              "NameTaken NothingToUndo NothingToRedo",
+    "sayings": "is_name:1 is_saying:1 words_in:1 depth_of:1 marks_in:1 unknowns_of:1 occurrences:2 put_for:3 "
+               "used_times:2",
+    "values": "is_value:1 fraction:2 compared:2 denominator_of:1 value_at:3 given_by:3",
+    "forms": "is_form:2 form_at:2 faces:1 summed:2",
+    "questions": "name_form:2 not_form:1 question_of:3 form_by_side:4",
+    "cells": "least_on:2 emptiness:2 changes_sign:2",
+    "trees": "pieces:1 forms_taken:2",
+    "validity": "is_valid:1 validity:1 is_validity:2 below_one:1",
+    "likeness": "are_alike:2 likeness:2 is_likeness:3 parting:2 is_parting:3",
+    "partings": "denominator_bound:2 least_parting:2",
+    "web": "value_forms:2 web_of:1 corners_of:1 corner_chain:1 first_difference:2 extremes:1",
+    "breaks": "breaks_of:1",
+    "follow": "least_uses:2 first_against:2 follow_certificate:2 is_follow_certificate:3",
+    "ladders": "is_ladder:1 ladder_of:1 written_out:1 ladder_at:3",
+}
+
+
+class Interface(unittest.TestCase):
+    def test_each_name_is_defined_in_its_file(self):
+        for file, names in LISTED.items():
+            module = importlib.import_module("halftruths." + file)
+            for entry in names.split():
+                name, _, count = entry.partition(":")
+                thing = getattr(module, name)
+                self.assertEqual(thing.__module__, module.__name__)
+                if count:
+                    self.assertTrue(inspect.isfunction(thing))
+                    self.assertEqual(len(inspect.signature(thing).parameters), int(count), name)
+                else:
+                    self.assertTrue(inspect.isclass(thing))
