@@ -1,11 +1,20 @@
 import random
+import time
 import unittest
 from fractions import Fraction
 
 from halftruths import breaks, errors
 from halftruths.likeness import are_alike
-from tests.helpers import (HALF, NO, ONE, X, Y, YES, ZERO, chained, check_raises, names_of, neg, nots, pair,
+from tests.helpers import (HALF, MARKS, NO, ONE, X, Y, YES, ZERO, chained, check_raises, names_of, neg, nots, pair,
                            random_saying, with_marks, worth)
+
+
+def nested(mark, count):
+    """(x mark (x mark .. x)), in which x stands so many times."""
+    saying = X
+    for _ in range(count - 1):
+        saying = (mark, X, saying)
+    return saying
 
 
 def times_in(saying):
@@ -75,6 +84,40 @@ class Breaks(unittest.TestCase):
         self.assertEqual(breaks.breaks_of(forty), ((ZERO, ZERO), ((1, 40), ONE), (ONE, ONE)))
         check_raises(self, errors.TooMany, {"what": "occurrences"}, breaks.breaks_of, ("and", forty, X))
         check_raises(self, errors.TooMany, {"what": "occurrences"}, breaks.breaks_of, chained("and", [X] * 60))
+
+    def test_many_occurrences_take_little_time(self):
+        told = {"times": ((ZERO, ZERO), ((39, 40), ZERO), (ONE, ONE)), "same": ((ZERO, ONE), (ONE, ONE)),
+                "plus": ((ZERO, ZERO), ((1, 40), ONE), (ONE, ONE))}
+        for mark, expected in told.items():
+            saying = nested(mark, 40)
+            start = time.perf_counter()
+            for _ in range(100):
+                self.assertEqual(breaks.breaks_of(saying), expected)
+            self.assertLess(time.perf_counter() - start, 2)
+
+    def test_many_breaks_take_little_time(self):
+        saying = X
+        for _ in range(5):
+            saying = ("same", saying, neg(saying))
+        for count in range(8):
+            saying = ("same", saying, X) if count % 2 else ("same", X, neg(saying))
+        for count in range(36):
+            saying = ("same", YES, saying) if count % 2 else ("same", saying, NO)
+        start = time.perf_counter()
+        for _ in range(20):
+            found = breaks.breaks_of(saying)
+        self.assertLess(time.perf_counter() - start, 2)
+        self.assertEqual(len(found), 131)
+        self.assertEqual(found, breaks_anew(saying))
+
+    def test_beside_what_is_the_same_number_everywhere(self):
+        source = random.Random(27)
+        flat = (YES, NO, neg(YES), ("or", X, YES), ("times", X, neg(X)), ("and", NO, NO), ("leads", X, X))
+        for mark in MARKS:
+            for part in flat:
+                saying = random_saying(source, 3, ["x"])
+                for whole in ((mark, part, saying), (mark, saying, part), (mark, part, part), (mark, neg(part), X)):
+                    self.assertEqual(breaks.breaks_of(whole), breaks_anew(whole))
 
     def test_unknowns(self):
         for saying in (("and", X, Y), chained("and", [X, Y] * 30)):
