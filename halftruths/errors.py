@@ -9,7 +9,7 @@ class UnknownName(HalfError):
     """A name that is not among the names."""
 
     def __init__(self, name):
-        HalfError.__init__(self, "a name that is not among the names")
+        super().__init__("a name that is not among the names")
         self.name = name
 
 
@@ -17,7 +17,7 @@ class TooMany(HalfError):
     """More things of a kind than are allowed."""
 
     def __init__(self, what):
-        HalfError.__init__(self, "too many of a kind")
+        super().__init__("too many of a kind")
         self.what = what
 
 
@@ -25,7 +25,7 @@ class TooGreat(HalfError):
     """Something that is greater than is allowed."""
 
     def __init__(self, what):
-        HalfError.__init__(self, "greater than is allowed")
+        super().__init__("greater than is allowed")
         self.what = what
 
 
@@ -33,7 +33,7 @@ class OutOfRange(HalfError):
     """A number, or a thing of numbers, that lies outside of what is allowed."""
 
     def __init__(self, value):
-        HalfError.__init__(self, "outside of what is allowed")
+        super().__init__("outside of what is allowed")
         self.value = value
 
 
@@ -41,7 +41,7 @@ class WrongMark(HalfError):
     """A mark or a side that has no meaning here."""
 
     def __init__(self, mark):
-        HalfError.__init__(self, "a word that has no meaning here")
+        super().__init__("a word that has no meaning here")
         self.mark = mark
 
 
@@ -49,7 +49,7 @@ class WrongSize(HalfError):
     """A tuple of the wrong length."""
 
     def __init__(self, size):
-        HalfError.__init__(self, "a wrong number of entries")
+        super().__init__("a wrong number of entries")
         self.size = size
 
 
@@ -57,7 +57,7 @@ class NotAFunction(HalfError):
     """Numbers that no saying has; the place is that of the first wrong one."""
 
     def __init__(self, place):
-        HalfError.__init__(self, "numbers that no saying has")
+        super().__init__("numbers that no saying has")
         self.place = place
 
 
@@ -65,7 +65,7 @@ class NoEdge(HalfError):
     """A pair of numbers that is no edge of the mesh."""
 
     def __init__(self, edge):
-        HalfError.__init__(self, "no edge of the mesh")
+        super().__init__("no edge of the mesh")
         self.edge = edge
 
 
@@ -73,7 +73,7 @@ class BadText(HalfError):
     """A text that cannot be read; the place is where reading ends."""
 
     def __init__(self, place):
-        HalfError.__init__(self, "a text that cannot be read")
+        super().__init__("a text that cannot be read")
         self.place = place
 
 
@@ -81,7 +81,7 @@ class NameTaken(HalfError):
     """A name that should be new and is not."""
 
     def __init__(self, name):
-        HalfError.__init__(self, "a name that is taken")
+        super().__init__("a name that is taken")
         self.name = name
 
 
@@ -89,11 +89,11 @@ class NothingToUndo(HalfError):
     """There is no change to take back."""
 
     def __init__(self):
-        HalfError.__init__(self, "nothing to undo")
+        super().__init__("nothing to undo")
 
 
 class NothingToRedo(HalfError):
     """There is no change to do again."""
 
     def __init__(self):
-        HalfError.__init__(self, "nothing to redo")
+        super().__init__("nothing to redo")

@@ -19,6 +19,16 @@ LISTED = {
     "breaks": "breaks_of:1",
     "follow": "least_uses:2 first_against:2 follow_certificate:2 is_follow_certificate:3",
     "ladders": "is_ladder:1 ladder_of:1 written_out:1 ladder_at:3",
+    "regions": "in_region:2 yes_region:1 saying_of_region:2",
+    "shadows": "shadow_of:2 sure_part_of:2 saying_of_stretches:2 word_between:2",
+    "meshes": "Mesh",
+    "chains": "failing_chains:2 fails_in_chain:3 failing_point:3 valid_chains:1 yes_chains:1",
+    "toldback": "told_heights:3 settled_heights:2 ladder_difference:2",
+    "outlines": "is_outline:1 told_outline:2 outline_of:1",
+    "tops": "told_tops:2 tops_at:2",
+}
+METHODS = {
+    ("meshes", "Mesh"): "nodes:1 tiles:1 cuts:1 cut:3 undo:1 weights:2 numbers:2 is_settled:2 settle:2 value:3 mean:2",
 }
 
 
@@ -35,3 +45,11 @@ class Interface(unittest.TestCase):
                     self.assertEqual(len(inspect.signature(thing).parameters), int(count), name)
                 else:
                     self.assertTrue(inspect.isclass(thing))
+
+    def test_each_method_is_defined_in_its_class(self):
+        for (file, name), methods in METHODS.items():
+            found = getattr(importlib.import_module("halftruths." + file), name)
+            for entry in methods.split():
+                method, _, count = entry.partition(":")
+                self.assertIn(method, vars(found))
+                self.assertEqual(len(inspect.signature(vars(found)[method]).parameters), int(count), method)
