@@ -26,6 +26,16 @@ LISTED = {
     "toldback": "told_heights:3 settled_heights:2 ladder_difference:2",
     "outlines": "is_outline:1 told_outline:2 outline_of:1",
     "tops": "told_tops:2 tops_at:2",
+    "tables": "table_of:3 told_table:3 table_count:2",
+    "chainsets": "told_chains:2 told_multiples:2 ladder_valid_chains:1 ladder_yes_chains:1",
+    "orders": "order_value:3 order_types:1 order_type_of:1 raised_type:1 point_of_type:1 order_level:3 order_valid:1 "
+              "order_alike:2 order_follows:2 order_parting:2 order_valid_in:2 order_steps:1",
+    "orderwords": "least_without:2 greatest_without:2 order_word:2 order_word_in:3",
+    "ordertables": "order_table:1 is_order_table:2 order_told:2 order_count:1 order_count_in:2 order_numbered:2 "
+                   "order_number:2",
+    "products": "product_grade:3 product_length:3 product_point:1 cases_of:1",
+    "productvalid": "product_pieces:2 is_product_valid:1 product_validity:1 is_product_validity:2 "
+                    "are_product_alike:2 product_parting:2",
 }
 METHODS = {
     ("meshes", "Mesh"): "nodes:1 tiles:1 cuts:1 cut:3 undo:1 weights:2 numbers:2 is_settled:2 settle:2 value:3 mean:2",
