@@ -26,7 +26,7 @@ def breaks_of(saying):
         raise TooMany("occurrences")
     lines = lines_of(saying)
     breaks = [((p, q), fraction(c * q + m * p, q)) for p, q, c, m in lines[:-1]]
-    _, _, c, m = lines[-2]
+    c, m = lines[-2][2:]
     return tuple(breaks) + (((1, 1), (c + m, 1)),)
 
 

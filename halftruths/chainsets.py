@@ -36,10 +36,10 @@ def told_places(places, name):
     """A ladder in the name that is 1 at just some places, the keys of a dict."""
     mesh = mesh_with([(place,) for place in places], (name,))
     nodes = mesh.nodes()
-    # A node for one name is a tuple just as the value that it stands for.
-    for first, second in mesh.edges():
-        if nodes[first] in places and nodes[second] in places:
-            mesh.cut(first, second)
+    # A node for one name is a pair just as the value that it stands for. Between two places there must be another one.
+    between = [edge for edge in mesh.edges() if nodes[edge[0]] in places and nodes[edge[1]] in places]
+    for first, second in between:
+        mesh.cut(first, second)
     return told_over(mesh, [node[-1] if node in places else 0 for node in mesh.nodes()])
 
 

@@ -76,9 +76,9 @@ def unsure_span(path, form, place):
 def without_spans(spans):
     """The tuple of the stretches of the places that are in no span; together the spans are open."""
     ends = {(0, 1): True, (1, 1): True}
-    for low, high, _, _ in spans:
-        ends[low] = True
-        ends[high] = True
+    for span in spans:
+        ends[span[0]] = True
+        ends[span[1]] = True
     places = [point[0] for point in ascending([(place,) for place in ends])]
     numbers = {place: number for number, place in enumerate(places)}
     # Place number k stands at 2 k, and what lies between it and the next one at 2 k + 1.

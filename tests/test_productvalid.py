@@ -4,9 +4,10 @@ import unittest
 from fractions import Fraction
 
 from halftruths import errors, productvalid
-from halftruths.products import cases_of, product_grade, product_point
+from halftruths.products import cases_of, product_grade, product_length, product_point
+from halftruths.validity import is_valid
 from tests.cones import judged, pieces_anew, rays
-from tests.helpers import (NO, W, X, Y, YES, Z, check_raises, names_of, neg, nots)
+from tests.helpers import NO, W, X, Y, YES, Z, check_raises, names_of, neg, nots, parts_first, worth
 from tests.meanings import (place_of, plus_in_each_place, product_worth, random_meant, some_lengths,
                             with_meant_marks)
 from tests.test_products import check_products_first, check_products_kept
@@ -134,6 +135,31 @@ class Validity(unittest.TestCase):
         rows = ((("sum", 1, ()),), (("is", "least", 1, (0,)), ("sum", 1, (0,))))
         self.assertTrue(is_rows(("leads", X, X), rows, True))
         self.assertIs(productvalid.is_product_validity(("leads", X, X), rows), True)
+
+    def test_length_nothing_but_not_valid(self):
+        # Above 0 all is 1, and at 0 it is not.
+        for lengths in some_lengths(2, 4):
+            if None not in lengths:
+                self.assertEqual(product_length(CANCEL, ("x", "y"), lengths), 0)
+        self.assertEqual(product_grade(CANCEL, ("x", "y"), ((0, 1), (1, 2))), (1, 2))
+        self.assertEqual(worth(CANCEL, ("x", "y"), [Fraction(1, 4)] * 2), Fraction(1, 2))
+        for value in ((1, 1), (1, 2), (2, 7)):
+            self.assertEqual(product_grade(neg(neg(X)), ("x",), (value,)), (1, 1))
+        self.assertEqual(product_grade(neg(neg(X)), ("x",), ((0, 1),)), (0, 1))
+        self.assertFalse(self.check(CANCEL) or self.check(neg(neg(X))))
+
+    def test_valid_from_zero_to_one(self):
+        # Without `no`, `not` and `plus`, what is valid has the length 0 at all lengths that are integers.
+        source = random.Random(147)
+        found = 0
+        for _ in range(300):
+            saying = random_meant(source, 3, ("x", "y"), 0)
+            if "no" not in {word[0] for word in parts_first(saying)} and is_valid(saying):
+                found += 1
+                for lengths in some_lengths(2, 3):
+                    if None not in lengths:
+                        self.assertEqual(product_length(saying, ("x", "y"), lengths), 0)
+        self.assertGreater(found, 10)
 
     def test_valid_ones(self):
         for saying in VALID:
