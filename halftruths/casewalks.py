@@ -1,6 +1,6 @@
 """Going along sayings in a case: with length forms, or nothing where the grade by products is 0."""
 
-from halftruths.conewalks import ConeWalk
+from halftruths.conewalks import ConeWalk, numbers_along
 from halftruths.forms import added, less
 from halftruths.sayings import MARKS, parts_of
 from halftruths.walks import words_parts_first
@@ -50,6 +50,22 @@ class CaseWalk(ConeWalk):
         first, second = self.waiting[-2:]
         form = length_by_side(self.steps[self.at], side, first, second)
         return CaseWalk(self.steps, self.at + 1, self.waiting[:-2] + (form,), path, self.case)
+
+    def lengths_along(self, point):
+        """Lengths of the case in the direction of a point for its positive unknowns."""
+        numbers = numbers_along(point)
+        lengths = {place: number for place, number in zip(self.places, numbers)}
+        return tuple([lengths.get(place) for place in range(len(self.case))])
+
+
+def no_lengths(case):
+    """The lengths of a case at which each positive unknown is 1."""
+    return tuple([0 if entry else None for entry in case])
+
+
+def length_at(form, lengths):
+    """What a length form is at lengths."""
+    return sum([number * length for number, length in zip(form, lengths) if length is not None])
 
 
 def unasked(mark, first, second, zero):

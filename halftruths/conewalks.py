@@ -3,6 +3,7 @@
 from halftruths.cells import least_on
 from halftruths.forms import form_at, less, scaled, summed
 from halftruths.kinds import is_whole
+from halftruths.values import denominator_of
 from halftruths.walks import Walk
 
 
@@ -16,6 +17,12 @@ def least_in_cone(path, form, places):
     point, k, multiples = least_on(tuple(cut), (0,) + tuple([form[place] for place in places]))
     # The least value is 0 then, so no multiple of a face 1 - x is above 0; these stand behind those of the faces x.
     return point, k, multiples[:len(path)] + multiples[len(path)::2]
+
+
+def numbers_along(point):
+    """Integers from 0 on in the direction of a point: its values in parts of its denominator."""
+    whole = denominator_of(point)
+    return tuple([above * (whole // below) for above, below in point])
 
 
 class ConeWalk(Walk):

@@ -1,12 +1,11 @@
 """What is valid and alike by products, with certificates."""
 
-from halftruths.casewalks import walk_in_case
+from halftruths.casewalks import length_at, no_lengths, walk_in_case
 from halftruths.certificates import are_rows_from, rows_from
 from halftruths.conewalks import least_in_cone
 from halftruths.forms import less, opposite
 from halftruths.products import cases_of, check_products
 from halftruths.sayings import unknowns_of
-from halftruths.values import denominator_of
 from halftruths.walks import ends_of
 
 # The form of the saying at the end, taken below 0.
@@ -70,7 +69,7 @@ def product_parting(first, second):
             left, right = walk.waiting
             if left is None or right is None:
                 if left != right:
-                    return tuple([0 if entry else None for entry in case])
+                    return no_lengths(case)
             elif left != right:
                 # The cone of a piece has inner points, so different forms differ at some of them.
                 return lengths_with(walk, less(left, right))
@@ -80,10 +79,7 @@ def product_parting(first, second):
 def lengths_with(walk, form):
     """Lengths in the cone of a walk in a case at which a form is not 0; it is not 0 throughout the cone."""
     for each in (form, opposite(form)):
-        point = least_in_cone(walk.path, each, walk.places)[0]
-        whole = denominator_of(point)
-        numbers = [above * (whole // below) for above, below in point]
-        lengths = {place: number for place, number in zip(walk.places, numbers)}
-        if sum([form[place] * lengths[place] for place in walk.places]) != 0:
-            return tuple([lengths.get(place) for place in range(len(form))])
+        lengths = walk.lengths_along(least_in_cone(walk.path, each, walk.places)[0])
+        if length_at(form, lengths) != 0:
+            return lengths
     return None

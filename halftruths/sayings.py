@@ -1,4 +1,7 @@
-"""Sayings: their names, words, marks and unknowns."""
+"""Sayings: their names, words, marks and unknowns.
+
+What goes by parts alone (words, depth, unknowns) serves for terms as well.
+"""
 
 from halftruths.errors import TooGreat
 
@@ -19,8 +22,8 @@ def is_name(value):
 
 
 def parts_of(word):
-    """The words that stand directly in a word, in their order."""
-    return word[1:] if word[0] == "not" or word[0] in MARKS else ()
+    """What stands directly in a word of a saying or a term, or in a row of a ladder, in its order."""
+    return () if word[0] == "unknown" else word[1:]
 
 
 def is_word(value):
@@ -36,13 +39,18 @@ def is_word(value):
 
 def is_saying(value):
     """Whether a value is a saying."""
+    return is_built(value, is_word)
+
+
+def is_built(value, fits):
+    """Whether a value is built of words that all fit, within the greatest number of words and depth."""
     count = 0
     waiting = [(value, 0)]
     while waiting:
         word, depth = waiting.pop()
         count += 1
         # Counting while going along ends early, also where equal parts are shared many times.
-        if count > MOST_WORDS or depth > MOST_DEPTH or not is_word(word):
+        if count > MOST_WORDS or depth > MOST_DEPTH or not fits(word):
             return False
         for part in parts_of(word):
             waiting.append((part, depth + 1))

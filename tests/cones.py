@@ -56,8 +56,8 @@ def unasked(mark, a, b, zero):
 class Along:
     """Goes along sayings in a case; at a question it calls `ask`, at the end of a branch `end`."""
 
-    def __init__(self, sayings, case):
-        self.names = names_of(*sayings)
+    def __init__(self, sayings, case, names=None):
+        self.names = names_of(*sayings) if names is None else names
         self.case = case
         self.places = [k for k, entry in enumerate(case) if entry]
         self.words = [word for saying in sayings for word in parts_first(saying)]
@@ -130,12 +130,21 @@ def is_sum(path, places, form, k, multiples):
     return total == [k * number for number in form]
 
 
-def judged(sayings, case, goal, rows, plain=False):
+def judged(sayings, case, goal, rows, plain=False, names=None):
     """Whether these are rows for a goal, told as numbers for the sayings; if wanted, also whether they are plain."""
-    along = Along(sayings, case)
+    return judged_along(Along(sayings, case, names), len(case), goal, rows, plain)
+
+
+def judged_along(along, size, goal, rows, plain=False, seen=None):
+    """As judged, for anything that is gone along with forms of so many numbers.
+
+    Whether a question changes sign is looked at where the numbers at the places that are seen are from 0 on; they
+    are the places of the cone, but for those at which all forms have 0.
+    """
     if type(rows) is not tuple:
         return False
     left = list(rows)
+    seen = along.places if seen is None else seen
 
     def next_row(kind, size):
         need(left)
@@ -146,7 +155,7 @@ def judged(sayings, case, goal, rows, plain=False):
     def ask(question, path):
         need(left and type(left[0]) is tuple and left[0])
         if plain:
-            side = plain_side(path, along.places, question)
+            side = plain_side(path, seen, question)
             need(left[0][:2] == ("is", side) or (side == "split" and left[0] == ("split",)))
         if left[0] == ("split",):
             left.pop(0)
@@ -159,7 +168,7 @@ def judged(sayings, case, goal, rows, plain=False):
     def end(waiting, path):
         _, k, multiples = next_row("sum", 3)
         need(None not in waiting)
-        form = [0] * len(case)
+        form = [0] * size
         for number, each in zip(goal, waiting):
             form = [f + number * entry for f, entry in zip(form, each)]
         need(is_sum(path, along.places, tuple(form), k, multiples))

@@ -297,3 +297,7 @@ def check_bounded_pair(test, errors, function):
         check_raises(test, many, {"what": "marks"}, function, NO, with_marks(most + 1, leaves))
     check_raises(test, many, {"what": "unknowns"}, function, with_marks(2, [X, Y, Z]), W)
     check_raises(test, many, {"what": "unknowns"}, function, with_marks(20, [X, Y]), with_marks(20, [Z, W]))
+
+
+def occurrences_of(saying, name):
+    return sum(word == ("unknown", name) for word in words_of(saying))

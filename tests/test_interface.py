@@ -36,6 +36,13 @@ LISTED = {
     "products": "product_grade:3 product_length:3 product_point:1 cases_of:1",
     "productvalid": "product_pieces:2 is_product_valid:1 product_validity:1 is_product_validity:2 "
                     "are_product_alike:2 product_parting:2",
+    "productfollows": "product_use:2 product_derivation:2 is_product_derivation:3 product_gap:2",
+    "producttables": "product_table:2 is_product_table:2 saying_of_table:2",
+    "grades": "is_grade:2 compared_grades:2 chain_given:4 chain_value:4",
+    "chaintrees": "chain_valid:1 chain_parting:1 chain_certificate:1 chain_holds:2 chain_valid_in:2",
+    "carried": "from_point:1 from_order:1 from_lengths:2 closed_up:1 into_sums:3",
+    "terms": "is_term:1 term_unknowns:1 term_row:4",
+    "groups": "is_never_above:2 are_terms_alike:2 never_above:2 shows_never_above:3 above_numbers:2",
 }
 METHODS = {
     ("meshes", "Mesh"): "nodes:1 tiles:1 cuts:1 cut:3 undo:1 weights:2 numbers:2 is_settled:2 settle:2 value:3 mean:2",
