@@ -10,7 +10,8 @@ from halftruths.questions import SIDES, form_by_side, leaf_form, not_form, quest
 from halftruths.sayings import parts_of, unknowns_of
 from halftruths.values import check_names, compared, denominator_of, value_at
 
-MOST_QUESTIONS = {2: 60, 3: 16}
+# By the number of unknowns; None for any number.
+MOST_QUESTIONS = (None, None, 60, 16)
 
 
 class Gathering:
@@ -65,8 +66,13 @@ def common_web(sayings):
 
 def web_in_bound(sayings):
     """The web of a tuple of sayings; raises TooMany if it is too great for its corners."""
+    return web_within(sayings, MOST_QUESTIONS)
+
+
+def web_within(sayings, bounds):
+    """The web of a tuple of sayings; raises TooMany if it is greater than the bound for so many unknowns."""
     web = web_of(sayings)
-    most = MOST_QUESTIONS.get(len(unknowns_of(sayings)))
+    most = bounds[len(unknowns_of(sayings))]
     if most is not None and len(web) > most:
         raise TooMany("questions")
     return web

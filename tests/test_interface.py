@@ -43,9 +43,20 @@ LISTED = {
     "carried": "from_point:1 from_order:1 from_lengths:2 closed_up:1 into_sums:3",
     "terms": "is_term:1 term_unknowns:1 term_row:4",
     "groups": "is_never_above:2 are_terms_alike:2 never_above:2 shows_never_above:3 above_numbers:2",
+    "termsayings": "term_of:1 length_term:1 halves:3 equation_sayings:4",
+    "termtables": "term_table:2 is_term_table:2 term_of_table:2",
+    "means": "mean_of:1 product_mean:2 distance_of:2 mean_with:3",
+    "shares": "share_from:2 yes_share:1 levels_of:1 grid_sum:2",
+    "texts": "saying_text:1 value_text:1 point_text:2 read_saying:1 read_value:1",
+    "book": "Book",
+    "shown": "answer_to:1 certified:1 is_certified:3",
+    "desk": "Desk",
 }
 METHODS = {
     ("meshes", "Mesh"): "nodes:1 tiles:1 cuts:1 cut:3 undo:1 weights:2 numbers:2 is_settled:2 settle:2 value:3 mean:2",
+    ("book", "Book"): "hold:2 drop:2 undo:1 redo:1 held:1 names:1 together:1 is_possible:1 range_of:2 answer:2 uses_for:2 "
+                      "tried:3 tried_within:4 __contains__:2 __iter__:1 __eq__:2 __enter__:1 __exit__:4",
+    ("desk", "Desk"): "line:2",
 }
 
 

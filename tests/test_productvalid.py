@@ -58,6 +58,8 @@ def changed_once(value):
         for other in ("split", "is", "sum", "empty", "least", "most", "", None, 1):
             if other != value:
                 yield other
+    elif value is None:
+        yield from (0, 1, "", (), False, (None,))
     else:
         for other in (value + 1, value - 1, -value - 1, True, False, None, str(value), float(value), (value,)):
             yield other
