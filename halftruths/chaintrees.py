@@ -1,10 +1,10 @@
 """What is valid in chains of chains, with certificates."""
 
 from halftruths.bounds import check_unknowns
-from halftruths.chainwalks import ONE, first_values, tree_from, values_with, walk_in_placement
+from halftruths.chainwalks import first_values, tree_from, values_with, walk_in_placement
 from halftruths.conditions import are_empty
 from halftruths.errors import OutOfRange, TooMany
-from halftruths.grades import grade_in
+from halftruths.grades import ONE, grade_in
 from halftruths.orderlevels import check_meant
 from halftruths.orders import order_types
 from halftruths.sayings import all_words, marks_in, unknowns_of

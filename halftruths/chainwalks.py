@@ -6,11 +6,10 @@ A result is ("one",) or ("in", k, F) with the number of a piece and a form. What
 
 from halftruths.conditions import first_conditions, is_kept, kept_by
 from halftruths.forms import added, constant, is_constant, less, one_less, opposite
+from halftruths.grades import ONE
 from halftruths.questions import name_form
 from halftruths.sayings import parts_of
 from halftruths.walks import words_parts_first
-
-ONE = ("one",)
 
 
 def leaf_result(word, names, kind):

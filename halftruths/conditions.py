@@ -47,14 +47,10 @@ def kept_by(conditions, places):
 def for_conditions(multiples, path, size):
     """The multiples of conditions, made from those of a path and of the faces of its cell."""
     counts = list(multiples[:size])
-    ends = multiples[size:]
     # Behind the first condition, 1 > 0, stand those of the faces; the last two faces are those of the gap.
-    for place, number in enumerate(ends[:-2]):
+    for place, number in enumerate(multiples[size:-2]):
         counts[place + 1] += number
-    counts[0] += ends[-1]
-    forms = [form[:-1] for form in path]
-    rest = summed(forms, counts)[0]
-    counts[0] -= rest
+    counts[0] -= sum([number * form[0] for number, form in zip(counts, path)])
     return tuple(counts)
 
 

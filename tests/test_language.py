@@ -198,6 +198,26 @@ class Files(unittest.TestCase):
         kinds = (ast.AsyncFunctionDef, ast.AsyncFor, ast.AsyncWith, ast.Await)
         self.check_trees(lambda tree: [node.lineno for node in ast.walk(tree) if isinstance(node, kinds)], "L6")
 
+    def test_beside_operators(self):
+        # A class is compared, asked by `in` and iterated over: so no generators, no `sort`, no length of an object.
+        def wrong(tree):
+            kinds = (ast.GeneratorExp, ast.Yield, ast.YieldFrom)
+            found = [node.lineno for node in ast.walk(tree) if isinstance(node, kinds)]
+            found += [node.lineno for node in ast.walk(tree) if isinstance(node, ast.Attribute) and node.attr == "sort"]
+            return found + [node.name for node in ast.walk(tree) if isinstance(node, ast.FunctionDef)
+                            and node.name in ("__len__", "__getitem__", "__lt__", "__bool__", "__hash__", "__add__")]
+        self.check_trees(wrong, "L5, L7, L25")
+
+    def test_rows_of_exit(self):
+        def wrong(tree):
+            found = []
+            for node in ast.walk(tree):
+                if isinstance(node, ast.FunctionDef) and node.name == "__exit__":
+                    found += [row.lineno for row in node.body if not isinstance(row, ast.Assign)
+                              or not isinstance(row.targets[0], ast.Attribute) or not isinstance(row.value, ast.Attribute)]
+            return found
+        self.check_trees(wrong, "L6")
+
     def test_calls_without_stars_at_builtins(self):
         def wrong(tree):
             return [node.lineno for node in ast.walk(tree) if isinstance(node, ast.Call)

@@ -181,6 +181,15 @@ class Judging(unittest.TestCase):
         self.assertFalse(self.is_one(YES, NO, (4, ((),))))
         self.assertFalse(self.is_one(YES, NO, (4, ((("sum", 1, ()),),))))
 
+    def test_goals_of_what_is_not_valid(self):
+        # The goal is -b, so where b is above 0 there are no rows, whatever their multiples.
+        excluded = ("or", X, ("not", X))
+        for rows in ((("sum", 1, (1,)),), (("sum", 2, (2,)),), (("sum", 1, (0,)),)):
+            self.assertFalse(self.is_one(YES, excluded, (0, ((("sum", 1, ()),), rows))))
+            self.assertFalse(self.is_one(NO, excluded, (0, ((("sum", 1, ()),), rows))))
+        for rows in ((("sum", 1, (1,)),), (("sum", 1, (0,)),), (("sum", 1, (2,)),)):
+            self.assertFalse(self.is_one(YES, excluded, (1, ((("sum", 1, ()),), rows))))
+
     def test_greater_uses(self):
         # From the least use on, there are derivations with every number.
         for first, second, uses in EXAMPLES:

@@ -288,17 +288,15 @@ class Terms(unittest.TestCase):
         self.check(("x",), (40, -40))
 
     def test_just_the_bound(self):
-        # Fans with the cost 300, and with the least greater one.
+        # Fans with the costs 300 and 301.
         source = random.Random(337)
-        kept = passed = 0
-        for _ in range(20000):
-            fan = random_fan(source, source.choice((1, 2, 6)), 30)
-            if fan is not None and cost_of(fan) == 300:
+        found = {300: 0, 301: 0}
+        while min(found.values()) < 4:
+            fan = random_fan(source, source.choice((1, 2, 3, 6)), 30)
+            cost = 0 if fan is None else cost_of(fan)
+            if cost == 300:
                 self.check(NAMES, fan)
-                kept += 1
-            elif fan is not None and 300 < cost_of(fan) < 308:
+            elif cost == 301:
                 check_raises(self, errors.TooGreat, {"what": "cost"}, termtables.term_of_table, NAMES, fan)
-                passed += 1
-            if min(kept, passed) > 3:
-                break
-        self.assertTrue(kept and passed)
+            if cost in found:
+                found[cost] += 1

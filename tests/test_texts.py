@@ -124,6 +124,8 @@ class Reading(unittest.TestCase):
         check_raises(self, errors.BadText, {"place": 60}, texts.read_saying, deep_brackets(61))
         check_raises(self, errors.BadText, {"place": 60}, texts.read_saying, "(" * 100)
         check_raises(self, errors.BadText, {"place": 120}, texts.read_saying, "( " * 100)
+        check_raises(self, errors.BadText, {"place": 60 * 6}, texts.read_saying, "(x or " * 61)
+        self.assertEqual(depth_of(texts.read_saying("(x or " * 60 + "y" + ")" * 60)), 60)
         # Brackets that are closed again do not count, and `not` does not either.
         text = "(" * 59 + "((x or x) and (x or x))"
         check_raises(self, errors.BadText, {"place": 60}, texts.read_saying, text)
