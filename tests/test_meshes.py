@@ -205,6 +205,19 @@ class Settling(unittest.TestCase):
             self.assertEqual(mesh.settle(saying), plain.settle(saying))
             self.assertEqual(mesh.cuts(), tuple(plain.cuts))
 
+    def test_which_edge_is_cut_first(self):
+        # With these, another order of the open edges would make other cuts.
+        for saying in (neg(("same", ("times", ("or", neg(X), X), X), ("plus", Y, Y))),
+                       ("same", X, ("same", ("same", Y, neg(Y)), X)),
+                       ("plus", ("yes",), ("leads", Y, ("same", Y, ("times", neg(X), ("leads", X, Y))))),
+                       ("or", neg(("and", ("times", Y, Y), neg(X))), neg(X)),
+                       neg(("leads", ("times", Z, ("plus", Y, Y)), neg(("leads", X, Y)))),
+                       ("times", ("or", Z, Z), ("times", Y, ("times", ("and", Z, X), X)))):
+            for names in (("x", "y", "z"), ("z", "y", "x")):
+                mesh, plain = Mesh(names), Plain(names)
+                self.assertEqual(mesh.settle(saying), plain.settle(saying))
+                self.assertEqual(mesh.cuts(), tuple(plain.cuts))
+
     def test_names_that_do_not_stand_in_it(self):
         mesh = Mesh(("y", "x", "w"))
         self.assertEqual(mesh.settle(tents(1)), mesh.numbers(tents(1)))
